@@ -132,6 +132,38 @@ func TestNew(t *testing.T) {
 	}
 }
 
+// P26, "A world": each node's disk has 400 sectors.
+func TestDisks(t *testing.T) {
+	for _, m := range lay(t, 3, 1).machines {
+		if m.disk.Sectors() != 400 {
+			t.Errorf("%d sectors", m.disk.Sectors())
+		}
+	}
+}
+
+// P26.3: two blocks with one digest can't be made by hand, but one may be planted among those that were kept.
+func TestClash(t *testing.T) {
+	w := lay(t, 3, 1)
+	r, _ := w.Record(super(t, w, 0).Head)
+	call(t, w, 0, mkdir("/a"))
+	flow(t, w)
+	if w.Clash() {
+		t.Error("no Clash")
+	}
+	w.blocks[r.Snaps] = []byte("another text")
+	call(t, w, 0, mkdir("/b"))
+	flow(t, w)
+	if !w.Clash() {
+		t.Error("two texts have one digest")
+	}
+	w.blocks[r.Snaps] = []byte("T\x00\x00")
+	call(t, w, 0, mkdir("/c"))
+	flow(t, w)
+	if !w.Clash() {
+		t.Error("it was so behind some event")
+	}
+}
+
 // P26.2: what is refused, is an event, too, and changes nothing else.
 func TestRefused(t *testing.T) {
 	w := lay(t, 3, 2)

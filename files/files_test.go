@@ -116,7 +116,8 @@ func TestCheckRefuses(t *testing.T) {
 		"no parent": {root, pair("n/a/b", "d")}, "in a file": {root, empty, pair("n/f/b", "d")}, "no grandparent": {root, pair("n/a/b", "d"), pair("n/a/b/c", "d")},
 		"no value": {root, pair("n/a", "")}, "long value": {root, pair("n/a", "dd")}, "another kind": {root, pair("n/a", "x")},
 		"a short size": {root, pair("n/f", "f\x00")}, "a long size": {root, pair("n/f", "f\x00\x00\x00")}, "too big": {root, pair("n/f", "f\x00\xc1")},
-		"big": {root, pair("n/f", "f\xff\xff")}, "a chunk too few": {root, ten}, "a chunk too many": {pair("c/f\x00\x00", ""), root, empty},
+		"too big, with its bytes": {pair("c/f\x00\x00", text(64)), pair("c/f\x00\x01", text(64)), pair("c/f\x00\x02", text(64)), pair("c/f\x00\x03", "x"), root, pair("n/f", "f\x00\xc1")},
+		"big":                     {root, pair("n/f", "f\xff\xff")}, "a chunk too few": {root, ten}, "a chunk too many": {pair("c/f\x00\x00", ""), root, empty},
 		"a short chunk": {pair("c/f\x00\x00", text(9)), root, ten}, "a long chunk": {pair("c/f\x00\x00", text(11)), root, ten},
 		"a chunk of a directory": {pair("c/a\x00\x00", "x"), root, dir}, "a chunk of nothing": {pair("c/x\x00\x00", "x"), root},
 		"another number": {pair("c/f\x00\x01", text(10)), root, ten}, "no nought": {pair("c/f\x01\x00", text(10)), root, ten},
@@ -400,6 +401,12 @@ func TestNothingShared(t *testing.T) {
 			t.Errorf("%v: the files are shared", o)
 		}
 		o.Data = in
+	}
+	g, _ := Do(world(t, create("/f"), truncate("/f", 192)), write("/f", 0, text(192)))
+	spoil(g[0].Value)
+	spoil(g[0].Key)
+	if string(g[1].Value) != text(192)[64:128] || string(g[2].Value) != text(192)[128:] || string(g[1].Key) != "c/f\x00\x01" {
+		t.Error("texts of one answer share memory")
 	}
 	one, two := New(), New()
 	spoil(one[0].Key)

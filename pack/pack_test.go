@@ -159,6 +159,9 @@ func TestNothingShared(t *testing.T) {
 	x := NewEye(in)
 	in[2] = '!'
 	text, _ := x.Text()
+	if string(text) != "ab" {
+		t.Errorf("an argument was kept: %q", text)
+	}
 	spoil(text)
 	if s, _ := x.Raw(1); string(s) != "c" {
 		t.Errorf("%q", s)

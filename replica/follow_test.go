@@ -237,6 +237,25 @@ func TestBelowCommitted(t *testing.T) {
 	l.super("as it was", 2, 0, 0, 3, 3)
 }
 
+// P23.4: a head with a Gen that is below by now.
+func TestPassedOverSince(t *testing.T) {
+	l := lay(t, 3)
+	l.run(l.take(0, mkdir(1, 1)), 1, 2)
+	l.run(l.take(0, mkdir(1, 2)), 1, 2)
+	x := lay(t, 3)
+	x.elect(1, 1, 2)
+	ship := x.take(1, mkdir(2, 1))[1]
+	blocks := api.Message{Kind: api.MsgBlocks, From: 1, Blocks: ship.Blocks}
+	ship.Blocks = nil
+	l.take(2, ship)
+	m := l.told(api.MsgCommit, 0, 2)
+	m.Commit = 2
+	l.take(2, m)
+	wants(t, "passed over", l.take(2, blocks))
+	l.super("as it was", 2, 0, 0, 2, 2)
+	wants(t, "the aim is gone", l.tick(2))
+}
+
 // P23.4: a head whose record has another Gen than was told isn't made the head.
 func TestLyingGen(t *testing.T) {
 	l := lay(t, 3)

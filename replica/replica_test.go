@@ -10,6 +10,7 @@ import (
 	"trireme/disk"
 	"trireme/group"
 	"trireme/order"
+	"trireme/shape"
 )
 
 // P23.1
@@ -169,8 +170,8 @@ func TestAgainAndStale(t *testing.T) {
 	wants(t, "again", l.take(0, request(1, 5, op(api.OpMkdir, "/x"))), reply)
 	wants(t, "stale", l.take(0, request(1, 4, op(api.OpMkdir, "/x"))))
 	l.super("nothing is done twice", 0, 0, 0, 1, 1)
-	ship = l.take(0, mkdir(2, 1))
-	wants(t, "again, with a later one on its way", l.take(0, request(1, 5, op(api.OpStat, "/"))), reply)
+	ship = l.take(0, mkdir(2, 5))
+	wants(t, "again, with another client's of that number on its way", l.take(0, request(1, 5, op(api.OpStat, "/"))), reply)
 	l.take(0, request(1, 6, op(api.OpRemove, "/x")))
 	wants(t, "stale by one that isn't committed", l.take(0, request(1, 5, op(api.OpStat, "/"))))
 	wants(t, "not committed yet", l.take(0, request(1, 6, op(api.OpRemove, "/x"))))
@@ -346,6 +347,58 @@ func TestOK(t *testing.T) {
 	l.take(0, api.Message{Kind: api.MsgViewChange, From: 1, View: 4})
 	wants(t, "not normal", l.take(0, ok(1, 4, 1), ok(1, 0, 1)))
 	l.super("not normal", 0, 4, 0, 1, 0)
+}
+
+// P23.5: what others had in another view doesn't count in this one.
+func TestMarksAreOfAView(t *testing.T) {
+	l := lay(t, 5)
+	l.take(0, mkdir(1, 1))
+	l.take(0, api.Message{Kind: api.MsgOK, From: 1, Gen: 1})
+	for _, from := range []int{2, 3} {
+		l.take(0, api.Message{Kind: api.MsgViewChange, From: from, View: 5})
+	}
+	l.super("it leads again, with what it had", 0, 5, 5, 1, 0)
+	l.take(0, api.Message{Kind: api.MsgOK, From: 2, View: 5, Gen: 1})
+	l.super("two of five", 0, 5, 5, 1, 0)
+	l.take(0, api.Message{Kind: api.MsgOK, From: 3, View: 5, Gen: 1})
+	l.super("three of five", 0, 5, 5, 1, 1)
+}
+
+// P23.3: 64 of the new blocks are shipped at most; the others are fetched.
+func TestManyNewBlocks(t *testing.T) {
+	l := lay(t, 3)
+	number := uint64(0)
+	call := func(o api.Op) []api.Message {
+		number++
+		return l.take(0, request(1, number, o))
+	}
+	l.run(call(op(api.OpMkdir, "/d")), 0, 1, 2)
+	for i, found := 0, 0; found < 46; i++ { // each one will be a leaf of its own behind /e
+		if shape.Mark([]byte(fmt.Sprint("n/e/", i)), 0) {
+			found++
+			l.run(call(op(api.OpMkdir, fmt.Sprint("/d/", i))), 0, 1, 2)
+		}
+	}
+	s, bag := l.nodes[0].Super(), l.nodes[0].Bag()
+	_, more, _, _ := commit.Next(bag, s.Head, 0, request(1, number+1, api.Op{Kind: api.OpRename, Path: "/d", To: "/e"}).Call)
+	ship := call(api.Op{Kind: api.OpRename, Path: "/d", To: "/e"})
+	list := order.Hashes(more)
+	if len(list) <= 64 {
+		t.Fatalf("%d new blocks are too few", len(list))
+	}
+	if len(ship) != 2 || len(ship[1].Blocks) != 64 {
+		t.Fatalf("%d blocks of %d", len(ship[1].Blocks), len(list))
+	}
+	for i, b := range ship[1].Blocks {
+		if fmt.Sprint(b) != fmt.Sprint(more[list[i]]) {
+			t.Errorf("block %d isn't the next one", i)
+		}
+	}
+	got := l.run(ship[1:], 0, 2)
+	l.super("it has all", 2, 0, 0, 48, l.nodes[2].Commit())
+	if len(got) != 1 || l.nodes[0].Commit() != 48 {
+		t.Errorf("%v", got)
+	}
 }
 
 // P23.8
