@@ -347,3 +347,23 @@ func TestWildScripts(t *testing.T) {
 		})
 	}
 }
+
+// P2: two runs of the same script give the same answers.
+func TestTwoRuns(t *testing.T) {
+	run := func() string {
+		s := begin(t, 77, 5, 4)
+		s.wild(600, true)
+		s.parted(200)
+		s.calm()
+		text := fmt.Sprint(s.event, s.w.Calls(), s.w.Sights(), s.w.Len())
+		for i := range s.nodes {
+			u, ok := s.w.Super(i)
+			whole, e := s.w.Whole(i)
+			text += fmt.Sprint(u, ok, whole, e, s.w.Commit(i))
+		}
+		return text
+	}
+	if run() != run() {
+		t.Error("two runs differ")
+	}
+}

@@ -406,6 +406,30 @@ func TestPutLeavesOutWhatIsThere(t *testing.T) {
 	}
 }
 
+// P8.6
+func TestOneDigest(t *testing.T) {
+	rnd := rand.New(rand.NewSource(9))
+	seen := map[api.Hash]string{}
+	for range 3000 {
+		model := map[string]string{}
+		for range rnd.Intn(5) {
+			model[fmt.Sprint(rnd.Intn(8))] = fmt.Sprint(rnd.Intn(4))
+		}
+		var pairs []api.Pair
+		for _, k := range slices.Sorted(maps.Keys(model)) {
+			pairs = append(pairs, pair(k, model[k]))
+		}
+		h, _ := build(t, pairs)
+		if was, ok := seen[h]; ok && was != show(pairs) {
+			t.Fatalf("%s and %s have one digest", was, show(pairs))
+		}
+		seen[h] = show(pairs)
+	}
+	if len(seen) < 100 {
+		t.Errorf("only %d trees", len(seen))
+	}
+}
+
 func spoil(b []byte) {
 	b = b[:cap(b)]
 	for i := range b {
